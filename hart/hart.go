@@ -1,0 +1,49 @@
+// Package hart: a small processor that fetches by lines, and what is said to it: see DOC.md.
+package hart
+
+import (
+	"hart/api"
+	"hart/code"
+)
+
+// Hart is a machine.
+type Hart struct{}
+
+// Legal tells whether an instruction is legal (P3).
+func Legal(i api.Inst) bool { return code.Legal(i) }
+
+// Encode tells an instruction's bits (P3).
+func Encode(i api.Inst) (uint32, api.Errno) { return code.Encode(i) }
+
+// Decode tells the instruction of some bits (P3).
+func Decode(w uint32) (api.Inst, api.Errno) { return code.Decode(w) }
+
+// Expand tells what a short instruction is (P4).
+func Expand(p uint16) (api.Inst, api.Errno) { return api.Inst{}, api.OK }
+
+// Compress tells the short instruction that is the same (P4).
+func Compress(i api.Inst) (uint16, api.Errno) { return 0, api.OK }
+
+// Print tells an instruction in words (P5).
+func Print(i api.Inst) (string, api.Errno) { return "", api.OK }
+
+// Assemble tells the bytes of a source (P6).
+func Assemble(text string) (string, int, api.Errno) { return "", 0, api.OK }
+
+// New makes a machine (P7).
+func New(c api.Config) (*Hart, api.Errno) { return nil, api.OK }
+
+// Poke puts bytes into memory (P7).
+func (h *Hart) Poke(addr uint32, bytes string) {}
+
+// Peek tells bytes of memory (P7).
+func (h *Hart) Peek(addr uint32, n int) (string, api.Errno) { return "", api.OK }
+
+// Tick is a tick (P7).
+func (h *Hart) Tick(fetch bool, rest bool) {}
+
+// Look tells how the machine stands (P7).
+func (h *Hart) Look() api.State { return api.State{} }
+
+// Groups tells the last groups (P7).
+func (h *Hart) Groups() []api.Group { return nil }
