@@ -1,4 +1,4 @@
-// Package code knows the instructions as numbers of 32 bits: which are legal, and which bits are which.
+// Package code knows the instructions as numbers of 32 bits and of 16: which are legal, and which bits are which.
 package code
 
 import "hart/api"

@@ -15,11 +15,11 @@ func TestBitsAreTakenOnce(t *testing.T) {
 			at   int
 		}{{l.rd, rdAt}, {l.rs1, rs1At}, {l.rs2, rs2At}} {
 			if field.used {
-				taken = add(t, f, taken, registerMask<<field.at)
+				taken = add(t, "P3: format", int(f), taken, registerMask<<field.at)
 			}
 		}
 		for _, p := range l.pieces {
-			taken = add(t, f, taken, p.put(allBits))
+			taken = add(t, "P3: format", int(f), taken, p.put(allBits))
 		}
 		if taken != allBits {
 			t.Errorf("P3: format %d: bits %08x are nothing's", f, ^taken)
@@ -27,10 +27,10 @@ func TestBitsAreTakenOnce(t *testing.T) {
 	}
 }
 
-func add(t *testing.T, f format, taken, more uint32) uint32 {
+func add(t *testing.T, what string, number int, taken, more uint32) uint32 {
 	t.Helper()
 	if taken&more != 0 {
-		t.Errorf("P3: format %d: bits %08x are two things'", f, taken&more)
+		t.Errorf("%s %d: bits %08x are two things'", what, number, taken&more)
 	}
 	return taken | more
 }
@@ -41,7 +41,7 @@ func TestPiecesHoldTheSpan(t *testing.T) {
 		l := layoutOf(f)
 		var held uint32
 		for _, p := range l.pieces {
-			held = add(t, f, held, p.take(allBits))
+			held = add(t, "P3: format", int(f), held, p.take(allBits))
 		}
 		want := uint32(l.imm.most)
 		if l.imm.least < 0 {

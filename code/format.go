@@ -97,6 +97,14 @@ func (s span) signed(n int) int {
 	return n
 }
 
+// wrapped tells a number below 0 without its sign, if the span has none (a short lui's Imm has one, its long one's has not).
+func (s span) wrapped(n int) int {
+	if n < s.least {
+		return n + s.most + 1
+	}
+	return n
+}
+
 func (p piece) mask() uint32 {
 	return 1<<p.count - 1
 }

@@ -19,10 +19,10 @@ func Encode(i api.Inst) (uint32, api.Errno) { return code.Encode(i) }
 func Decode(w uint32) (api.Inst, api.Errno) { return code.Decode(w) }
 
 // Expand tells what a short instruction is (P4).
-func Expand(p uint16) (api.Inst, api.Errno) { return api.Inst{}, api.OK }
+func Expand(p uint16) (api.Inst, api.Errno) { return code.Expand(p) }
 
 // Compress tells the short instruction that is the same (P4).
-func Compress(i api.Inst) (uint16, api.Errno) { return 0, api.OK }
+func Compress(i api.Inst) (uint16, api.Errno) { return code.Compress(i) }
 
 // Print tells an instruction in words (P5).
 func Print(i api.Inst) (string, api.Errno) { return "", api.OK }
