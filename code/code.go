@@ -6,7 +6,7 @@ import "hart/api"
 // Legal tells whether an instruction is legal.
 func Legal(i api.Inst) bool {
 	f := rowOf(i.Op).format
-	if f == formatNone {
+	if f == FormatNone {
 		return false
 	}
 	l := layoutOf(f)

@@ -7,7 +7,7 @@ import (
 
 // TestBitsAreTakenOnce: what tells the Op, the registers and Imm's pieces fill the 32 bits, and no two of them lie on one.
 func TestBitsAreTakenOnce(t *testing.T) {
-	for f := formatR; f <= formatN; f++ {
+	for f := FormatR; f <= FormatN; f++ {
 		l := layoutOf(f)
 		taken := tellingBits(f)
 		for _, field := range []struct {
@@ -37,7 +37,7 @@ func add(t *testing.T, what string, number int, taken, more uint32) uint32 {
 
 // TestPiecesHoldTheSpan: Imm's pieces have each of its bits once, and as many as its span needs.
 func TestPiecesHoldTheSpan(t *testing.T) {
-	for f := formatR; f <= formatFence; f++ {
+	for f := FormatR; f <= FormatFence; f++ {
 		l := layoutOf(f)
 		var held uint32
 		for _, p := range l.pieces {
@@ -57,7 +57,7 @@ func TestPiecesHoldTheSpan(t *testing.T) {
 func TestRowsSetOnlyTellingBits(t *testing.T) {
 	for op := firstOp; op <= lastOp; op++ {
 		r := rowOf(op)
-		if r.format == formatNone || r.bits&^tellingBits(r.format) != 0 {
+		if r.format == FormatNone || r.bits&^tellingBits(r.format) != 0 {
 			t.Errorf("P3: Op %d: format %d, bits %08x", op, r.format, r.bits)
 		}
 		for other := firstOp; other < op; other++ {

@@ -1,19 +1,19 @@
 package code
 
-// format is how an Op's operands lie among the 32 bits.
-type format uint8
+// Format is how an Op's operands lie among the 32 bits.
+type Format uint8
 
 const (
-	formatNone format = iota // of what is no Op
-	formatR
-	formatI
-	formatH
-	formatS
-	formatB
-	formatU
-	formatJ
-	formatN
-	formatFence // uses nothing, as N does, but its other bits are not looked at
+	FormatNone Format = iota // of what is no Op
+	FormatR
+	FormatI
+	FormatH
+	FormatS
+	FormatB
+	FormatU
+	FormatJ
+	FormatN
+	FormatFence // uses nothing, as N does, but its other bits are not looked at
 )
 
 // Where the registers lie, in every format that uses them.
@@ -52,34 +52,34 @@ type layout struct {
 }
 
 // layoutOf serves both directions, so that what is read is always what was written.
-func layoutOf(f format) layout {
+func layoutOf(f Format) layout {
 	switch f {
-	case formatR:
+	case FormatR:
 		return layout{rd: true, rs1: true, rs2: true}
-	case formatI:
+	case FormatI:
 		return layout{rd: true, rs1: true, imm: span{-2048, 2047, false}, pieces: [4]piece{{0, 12, 20}}}
-	case formatH:
+	case FormatH:
 		return layout{rd: true, rs1: true, imm: span{0, 31, false}, pieces: [4]piece{{0, 5, 20}}}
-	case formatS:
+	case FormatS:
 		return layout{rs1: true, rs2: true, imm: span{-2048, 2047, false}, pieces: [4]piece{{5, 7, 25}, {0, 5, 7}}}
-	case formatB:
+	case FormatB:
 		return layout{rs1: true, rs2: true, imm: span{-4096, 4094, true}, pieces: [4]piece{{12, 1, 31}, {5, 6, 25}, {1, 4, 8}, {11, 1, 7}}}
-	case formatU:
+	case FormatU:
 		return layout{rd: true, imm: span{0, 1048575, false}, pieces: [4]piece{{0, 20, 12}}}
-	case formatJ:
+	case FormatJ:
 		return layout{rd: true, imm: span{-1048576, 1048574, true}, pieces: [4]piece{{20, 1, 31}, {1, 10, 21}, {11, 1, 20}, {12, 8, 12}}}
 	}
 	return layout{}
 }
 
 // tellingBits are those that are the same in every instruction of an Op of this format.
-func tellingBits(f format) uint32 {
+func tellingBits(f Format) uint32 {
 	switch f {
-	case formatU, formatJ:
+	case FormatU, FormatJ:
 		return opcodeBits
-	case formatI, formatS, formatB, formatFence:
+	case FormatI, FormatS, FormatB, FormatFence:
 		return opcodeBits | f3Bits
-	case formatR, formatH:
+	case FormatR, FormatH:
 		return opcodeBits | f3Bits | f7Bits
 	}
 	return allBits

@@ -2,8 +2,11 @@
 package hart
 
 import (
+	"errors"
+
 	"hart/api"
 	"hart/code"
+	"hart/source"
 )
 
 // Hart is a machine.
@@ -25,10 +28,38 @@ func Expand(p uint16) (api.Inst, api.Errno) { return code.Expand(p) }
 func Compress(i api.Inst) (uint16, api.Errno) { return code.Compress(i) }
 
 // Print tells an instruction in words (P5).
-func Print(i api.Inst) (string, api.Errno) { return "", api.OK }
+func Print(i api.Inst) (string, api.Errno) { return source.Print(i) }
 
 // Assemble tells the bytes of a source (P6).
-func Assemble(text string) (string, int, api.Errno) { return "", 0, api.OK }
+func Assemble(text string) (string, int, api.Errno) {
+	image, err := source.Assemble(text)
+	return image, lineOf(err), errnoOf(err)
+}
+
+// lineOf tells 0, if it was no line's error.
+func lineOf(err error) int {
+	var at source.LineError
+	if errors.As(err, &at) {
+		return at.Line
+	}
+	return 0
+}
+
+func errnoOf(err error) api.Errno {
+	switch {
+	case err == nil:
+		return api.OK
+	case errors.Is(err, source.ErrSyntax):
+		return api.ErrSyntax
+	case errors.Is(err, source.ErrLabel):
+		return api.ErrLabel
+	case errors.Is(err, source.ErrRange):
+		return api.ErrRange
+	case errors.Is(err, source.ErrNone):
+		return api.ErrNone
+	}
+	return api.ErrLong
+}
 
 // New makes a machine (P7).
 func New(c api.Config) (*Hart, api.Errno) { return nil, api.OK }
