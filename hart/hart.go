@@ -6,11 +6,14 @@ import (
 
 	"hart/api"
 	"hart/code"
+	"hart/machine"
 	"hart/source"
 )
 
 // Hart is a machine.
-type Hart struct{}
+type Hart struct {
+	machine *machine.Machine
+}
 
 // Legal tells whether an instruction is legal (P3).
 func Legal(i api.Inst) bool { return code.Legal(i) }
@@ -62,19 +65,25 @@ func errnoOf(err error) api.Errno {
 }
 
 // New makes a machine (P7).
-func New(c api.Config) (*Hart, api.Errno) { return nil, api.OK }
+func New(c api.Config) (*Hart, api.Errno) {
+	m, err := machine.New(c)
+	if err != api.OK {
+		return nil, err
+	}
+	return &Hart{m}, api.OK
+}
 
 // Poke puts bytes into memory (P7).
-func (h *Hart) Poke(addr uint32, bytes string) {}
+func (h *Hart) Poke(addr uint32, bytes string) { h.machine.Poke(addr, bytes) }
 
 // Peek tells bytes of memory (P7).
-func (h *Hart) Peek(addr uint32, n int) (string, api.Errno) { return "", api.OK }
+func (h *Hart) Peek(addr uint32, n int) (string, api.Errno) { return h.machine.Peek(addr, n) }
 
 // Tick is a tick (P7).
-func (h *Hart) Tick(fetch bool, rest bool) {}
+func (h *Hart) Tick(fetch bool, rest bool) { h.machine.Tick(fetch, rest) }
 
 // Look tells how the machine stands (P7).
-func (h *Hart) Look() api.State { return api.State{} }
+func (h *Hart) Look() api.State { return h.machine.Look() }
 
 // Groups tells the last groups (P7).
-func (h *Hart) Groups() []api.Group { return nil }
+func (h *Hart) Groups() []api.Group { return h.machine.Groups() }
